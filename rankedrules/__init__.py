@@ -1,0 +1,1 @@
+"""Rankedrules: what follows whatever the rank of the rules is."""

@@ -1,0 +1,67 @@
+"""What a value must be to be a name, a row, an index or a lot."""
+
+from rankedrules.errors import InvalidIndex, InvalidLot, InvalidRow
+from rankedrules.limits import MOST_RULES
+
+LETTERS = "abcdefghijklmnopqrstuvwxyz"
+MOST_LETTERS = 8
+SIGNS = "+-."
+
+
+def is_name(value):
+    """Whether the value is a name, of a rule or of anything else."""
+    if not isinstance(value, str) or not 1 <= len(value) <= MOST_LETTERS:
+        return False
+    return all([letter in LETTERS for letter in value])
+
+
+def are_names(values):
+    """Whether all values of a tuple are names, each greater than the one before it."""
+    if not all([is_name(value) for value in values]):
+        return False
+    return all([one < other for one, other in zip(values, values[1:])])
+
+
+def is_any_row(value):
+    """Whether the value is a row for some number of rules."""
+    if not isinstance(value, str) or not 1 <= len(value) <= MOST_RULES:
+        return False
+    return all([sign in SIGNS for sign in value])
+
+
+def is_row(value, many):
+    """Whether the value is a row with so many signs."""
+    return is_any_row(value) and len(value) == many
+
+
+def is_whole(value):
+    """Whether the value is an integer, which True and False are not."""
+    return isinstance(value, int) and not isinstance(value, bool)
+
+
+def is_index(value, many):
+    """Whether the value is an index of one of so many things."""
+    return is_whole(value) and 0 <= value < many
+
+
+def check_row(row, many):
+    """Raise InvalidRow if this is no row with so many signs."""
+    if not is_row(row, many):
+        raise InvalidRow(row)
+
+
+def check_index(index, many):
+    """Raise InvalidIndex if this is no index of one of so many things."""
+    if not is_index(index, many):
+        raise InvalidIndex(index)
+
+
+def check_lot(lot, many):
+    """Raise InvalidLot if this is no ascending tuple of indexes of so many things."""
+    if not isinstance(lot, tuple):
+        raise InvalidLot(None)
+    least = 0
+    for at, index in enumerate(lot):
+        if not is_index(index, many) or index < least:
+            raise InvalidLot(at)
+        least = index + 1

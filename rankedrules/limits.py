@@ -1,0 +1,9 @@
+"""How many of each thing there may be."""
+
+MOST_RULES = 8
+MOST_ROWS = 20
+MOST_CANDIDATES = 8
+MOST_MARKS = 99
+MOST_STRUCK = 10
+MOST_OFFERS = 8
+MOST_CASES = 4
