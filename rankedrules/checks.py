@@ -1,9 +1,10 @@
-"""What a value must be to be a name, a row, an index or a lot."""
+"""What a value must be to be a name, a number, a row, a ranking, an index or a lot."""
 
-from rankedrules.errors import InvalidIndex, InvalidLot, InvalidRow
+from rankedrules.errors import InvalidIndex, InvalidLot, InvalidRanking, InvalidRow, InvalidRule, UnknownName
 from rankedrules.limits import MOST_RULES
 
 LETTERS = "abcdefghijklmnopqrstuvwxyz"
+DIGITS = "0123456789"
 MOST_LETTERS = 8
 SIGNS = "+-."
 
@@ -20,6 +21,13 @@ def are_names(values):
     if not all([is_name(value) for value in values]):
         return False
     return all([one < other for one, other in zip(values, values[1:])])
+
+
+def is_number(word):
+    """Whether the word is a number in decimal digits without needless zeros."""
+    if word == "" or not all([digit in DIGITS for digit in word]):
+        return False
+    return word == "0" or word[0] != "0"
 
 
 def is_any_row(value):
@@ -44,10 +52,35 @@ def is_index(value, many):
     return is_whole(value) and 0 <= value < many
 
 
+def is_ranking(value, many):
+    """Whether the value is a ranking of so many rules: each index once."""
+    if not isinstance(value, tuple) or not all([is_whole(rule) for rule in value]):
+        return False
+    return sorted(value) == list(range(many))
+
+
 def check_row(row, many):
     """Raise InvalidRow if this is no row with so many signs."""
     if not is_row(row, many):
         raise InvalidRow(row)
+
+
+def check_ranking(ranking, many):
+    """Raise InvalidRanking if this is no ranking of so many rules."""
+    if not is_ranking(ranking, many):
+        raise InvalidRanking(ranking)
+
+
+def check_rule(rule, many):
+    """Raise InvalidRule if this is no index of one of so many rules."""
+    if not is_index(rule, many):
+        raise InvalidRule(rule)
+
+
+def check_known(name, names):
+    """Raise UnknownName if this is none of the names."""
+    if not isinstance(name, str) or name not in names:
+        raise UnknownName(name)
 
 
 def check_index(index, many):

@@ -6,7 +6,7 @@ import unittest
 
 from rankedrules.books import Book
 from rankedrules.errors import InvalidIndex, InvalidRow, InvalidText, TooMany
-from tests.values import HUGE, OTHER_KINDS, error_of, raised
+from tests.values import HUGE, OTHER_KINDS, Alike, error_of, raised
 
 EIGHT_NAMES = ("a", "bb", "cc", "dddddddd", "e", "f", "g", "zzzzzzzz")
 TWENTY_ROWS = tuple(["+-.", ".+-", "...", "--+"] * 5)
@@ -208,12 +208,6 @@ class ObjectTest(unittest.TestCase):
         self.assertEqual(Book("a: + -").without(1), Book("a: +"))
 
     def test_never_equal_to_a_value_of_another_class(self):
-        class Alike:
-            """A class whose objects say that they equal all."""
-
-            def __eq__(self, other):
-                return True
-
         book = Book("a b c: +-.")
         values = [value for value in OTHER_KINDS if not isinstance(value, Book)]
         for value in (*values, "a b c: +-.", book.names, book.rows, [book], Alike()):

@@ -1,8 +1,8 @@
-"""What a value must be to be a name, a row or an index, for values of any kind."""
+"""What a value must be to be a name, a number, a row, a ranking or an index, for values of any kind."""
 
 import unittest
 
-from rankedrules.checks import are_names, is_any_row, is_index, is_name, is_row
+from rankedrules.checks import are_names, is_any_row, is_index, is_name, is_number, is_ranking, is_row
 from tests.values import HUGE, OTHER_KINDS
 
 
@@ -36,11 +36,25 @@ class ChecksTest(unittest.TestCase):
             self.assertIs(is_index(index, 3), False)
         self.assertIs(is_index(0, 0), False)
 
+    def test_numbers(self):
+        for word in ("0", "1", "9", "10", "99", "100", "12345678901234567890"):
+            self.assertIs(is_number(word), True)
+        for word in ("", "00", "01", "-1", "+1", " 1", "1 ", "1\n", "1.0", "1_0", "a", "0x1", "\u00b2", "\u0663"):
+            self.assertIs(is_number(word), False)
+
+    def test_rankings(self):
+        for ranking in ((0,), (1, 0), (2, 0, 1), tuple(range(8))):
+            self.assertIs(is_ranking(ranking, len(ranking)), True)
+            self.assertIs(is_ranking(ranking, len(ranking) + 1), False)
+        for ranking in ((), (1,), (0, 0), (0, 2), (-1, 0), (False, True), (0, "1"), (HUGE, 0), [0, 1]):
+            self.assertIs(is_ranking(ranking, max(1, len(ranking))), False)
+
     def test_values_of_other_kinds(self):
         for value in OTHER_KINDS:
             with self.subTest(kind=value.__class__):
                 self.assertIs(is_name(value), value == "x")
                 self.assertIs(is_any_row(value), value == "+")
+                self.assertIs(is_ranking(value, 1), value == (0,))
                 self.assertIs(is_index(value, 2), value.__class__ is int and value in (0, 1))
 
 

@@ -15,6 +15,10 @@ DEFINED_IN = {
         "Broken", "InUse", "NothingToUndo",
     ),
     "books": ("Book", "opposite", "fusion"),
+    "layers": ("holds", "fits", "layers", "left_over", "quarrel"),
+    "rankings": ("how_many", "ranking_at", "number_of", "places", "beginnings"),
+    "following": ("judge", "above", "reasons", "needless", "alike"),
+    "cases": ("Case", "against", "winners", "told_by", "barred"),
 }
 
 

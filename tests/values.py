@@ -10,6 +10,13 @@ OTHER_KINDS = (
 )
 
 
+class Alike:
+    """A class whose objects say that they equal all."""
+
+    def __eq__(self, other):
+        return True
+
+
 def raised(act, *given, **named):
     """The error that a call raises, None if it raises none."""
     try:
