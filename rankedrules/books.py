@@ -1,29 +1,10 @@
 """Books: rules by name, and rows that tell who won against whom."""
 
-from rankedrules.checks import are_names, check_index, check_lot, check_row, is_any_row, is_row
+from rankedrules.checks import check_index, check_lot, check_row, is_any_row
 from rankedrules.errors import InvalidRow, InvalidText, NotABook, TooMany
-from rankedrules.limits import MOST_ROWS, MOST_RULES
-
-OPPOSITES = {"+": "-", "-": "+", ".": "."}
-
-
-def read_book(text):
-    """The names and the rows in a text of a book, two tuples; None if it is none."""
-    if not isinstance(text, str) or ":" not in text:
-        return None
-    head, _, tail = text.partition(":")
-    names = tuple(head.split(" "))
-    first, *rows = tail.split(" ")
-    if first != "" or len(names) > MOST_RULES or not are_names(names):
-        return None
-    if len(rows) > MOST_ROWS or not all([is_row(row, len(names)) for row in rows]):
-        return None
-    return names, tuple(rows)
-
-
-def write_book(names, rows):
-    """The text of the book with these names and rows."""
-    return " ".join([" ".join(names) + ":", *rows])
+from rankedrules.limits import MOST_ROWS
+from rankedrules.reading import read_book, write_book
+from rankedrules.rows import fused, turned
 
 
 class Book:
@@ -83,22 +64,11 @@ def opposite(row):
     """The row of the other candidate: better where this one is worse."""
     if not is_any_row(row):
         raise InvalidRow(row)
-    return "".join([OPPOSITES[sign] for sign in row])
-
-
-def fused_sign(signs):
-    """The sign of a fusion for a rule: the strongest of the signs of the rows."""
-    if "-" in signs:
-        return "-"
-    if "+" in signs:
-        return "+"
-    return "."
+    return turned(row)
 
 
 def fusion(book, lot):
     """The fusion of the rows of a lot."""
     check_book(book)
     check_lot(lot, len(book.rows))
-    rows = [book.rows[index] for index in lot]
-    rules = range(len(book.names))
-    return "".join([fused_sign([row[rule] for row in rows]) for rule in rules])
+    return fused([book.rows[index] for index in lot], len(book.names))

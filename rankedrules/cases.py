@@ -1,37 +1,10 @@
 """Cases: candidates with marks, who wins for a ranking, and who wins for none."""
 
-from rankedrules.checks import are_names, check_known, check_ranking, is_number
+from rankedrules.checks import check_known, check_ranking
 from rankedrules.errors import InvalidText, NotACase, UnknownName
-from rankedrules.layers import all_hold, some_fits
-from rankedrules.limits import MOST_CANDIDATES, MOST_MARKS, MOST_RULES
-
-LEAST_CANDIDATES = 2
-
-
-def is_mark(word):
-    """Whether the word is a number of marks."""
-    return is_number(word) and len(word) <= len(str(MOST_MARKS)) and int(word) <= MOST_MARKS
-
-
-def read_case(text):
-    """The names and the marks in a text of a case, two tuples; None if it is none."""
-    if not isinstance(text, str):
-        return None
-    parts = [part.split(" ") for part in text.split("; ")]
-    names = tuple([words[0] for words in parts])
-    marks = [words[1:] for words in parts]
-    if not LEAST_CANDIDATES <= len(names) <= MOST_CANDIDATES or not are_names(names):
-        return None
-    if not all([are_marks(words, len(marks[0])) for words in marks]):
-        return None
-    return names, tuple([tuple([int(word) for word in words]) for words in marks])
-
-
-def are_marks(words, many):
-    """Whether the words are marks for so many rules, and a case may have so many."""
-    if len(words) != many or not 1 <= many <= MOST_RULES:
-        return False
-    return all([is_mark(word) for word in words])
+from rankedrules.layers import some_fits
+from rankedrules.reading import read_case
+from rankedrules.rows import all_hold, row_between
 
 
 class Case:
@@ -75,18 +48,20 @@ def check_case(case):
         raise NotACase(case)
 
 
-def sign_of(mark, rival):
-    """The sign of a rule by which one has so many marks, and its rival so many."""
-    if mark < rival:
-        return "+"
-    return "-" if mark > rival else "."
+def case_fits(case, book):
+    """Whether the value is a case with as many numbers of marks as the book has rules."""
+    return isinstance(case, Case) and len(case.marks[0]) == len(book.names)
+
+
+def check_case_beside(book, case):
+    """Raise NotACase if this is no case that fits the book."""
+    if not case_fits(case, book):
+        raise NotACase(case)
 
 
 def row_against(case, one, other):
     """The row of one candidate against another one, both being right."""
-    mine = case.marks[case.names.index(one)]
-    theirs = case.marks[case.names.index(other)]
-    return "".join([sign_of(mark, rival) for mark, rival in zip(mine, theirs)])
+    return row_between(case.marks[case.names.index(one)], case.marks[case.names.index(other)])
 
 
 def rows_of(case, one):

@@ -1,6 +1,8 @@
 """What a value must be to be a name, a number, a row, a ranking, an index or a lot."""
 
-from rankedrules.errors import InvalidIndex, InvalidLot, InvalidRanking, InvalidRow, InvalidRule, UnknownName
+from rankedrules.errors import (
+    InvalidIndex, InvalidLot, InvalidName, InvalidRanking, InvalidRow, InvalidRule, UnknownName,
+)
 from rankedrules.limits import MOST_RULES
 
 LETTERS = "abcdefghijklmnopqrstuvwxyz"
@@ -52,6 +54,29 @@ def is_index(value, many):
     return is_whole(value) and 0 <= value < many
 
 
+def is_pair(one, other, many):
+    """Whether the values are unlike indexes of so many things."""
+    return is_index(one, many) and is_index(other, many) and one != other
+
+
+def wrong_in_lot(lot, many):
+    """The index of the first element that is no index or not greater than the one before it.
+
+    None if there is none, so that the tuple is a lot of indexes of so many things.
+    """
+    least = 0
+    for at, index in enumerate(lot):
+        if not is_index(index, many) or index < least:
+            return at
+        least = index + 1
+    return None
+
+
+def is_lot(value, many):
+    """Whether the value is a lot of indexes of so many things."""
+    return isinstance(value, tuple) and wrong_in_lot(value, many) is None
+
+
 def is_ranking(value, many):
     """Whether the value is a ranking of so many rules: each index once."""
     if not isinstance(value, tuple) or not all([is_whole(rule) for rule in value]):
@@ -77,6 +102,12 @@ def check_rule(rule, many):
         raise InvalidRule(rule)
 
 
+def check_name(name):
+    """Raise InvalidName if this is no name."""
+    if not is_name(name):
+        raise InvalidName(name)
+
+
 def check_known(name, names):
     """Raise UnknownName if this is none of the names."""
     if not isinstance(name, str) or name not in names:
@@ -93,8 +124,6 @@ def check_lot(lot, many):
     """Raise InvalidLot if this is no ascending tuple of indexes of so many things."""
     if not isinstance(lot, tuple):
         raise InvalidLot(None)
-    least = 0
-    for at, index in enumerate(lot):
-        if not is_index(index, many) or index < least:
-            raise InvalidLot(at)
-        least = index + 1
+    wrong = wrong_in_lot(lot, many)
+    if wrong is not None:
+        raise InvalidLot(wrong)

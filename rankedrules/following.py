@@ -2,8 +2,9 @@
 
 from rankedrules.books import check_book
 from rankedrules.checks import check_row, check_rule
-from rankedrules.heads import count_fitting, head_of, heads_above, rules_of
+from rankedrules.heads import count_fitting, head_of, heads_above
 from rankedrules.layers import check_some_fits
+from rankedrules.lots import all_lots, has_part
 
 
 def judge(book, row):
@@ -48,16 +49,10 @@ def least_lots(heads, many):
     What is above a rule never holds this rule itself, so no least lot has it.
     """
     least = []
-    lots = [rules_of(head, many) for head in range(1 << many)]
-    for lot in sorted(lots, key=lambda rules: (len(rules), rules)):
+    for lot in all_lots(many):
         if meets_all(head_of(lot), heads) and not has_part(lot, least):
             least.append(lot)
     return least
-
-
-def has_part(lot, others):
-    """Whether one of the other lots is a part of this one."""
-    return any([all([rule in lot for rule in other]) for other in others])
 
 
 def needless(book):

@@ -3,19 +3,7 @@
 from rankedrules.books import check_book
 from rankedrules.checks import check_ranking, check_row
 from rankedrules.errors import NoRanking
-
-
-def row_holds(row, ranking):
-    """Whether a row holds for a ranking, both being right."""
-    for rule in ranking:
-        if row[rule] != ".":
-            return row[rule] == "+"
-    return True
-
-
-def all_hold(rows, ranking):
-    """Whether all these rows hold for a ranking."""
-    return all([row_holds(row, ranking) for row in rows])
+from rankedrules.rows import all_hold, row_holds
 
 
 def has_sign(row, rules, sign):
@@ -45,6 +33,12 @@ def some_fits(rows, many):
     """Whether all rows hold for some ranking of so many rules."""
     _, still = split(rows, many)
     return not still
+
+
+def some_ranking(rows, many):
+    """A ranking of so many rules for which all rows hold; there must be one."""
+    made, _ = split(rows, many)
+    return tuple([rule for layer in made for rule in layer])
 
 
 def check_some_fits(book):
@@ -84,14 +78,17 @@ def left_over(book):
 
 def quarrel(book):
     """A lot of rows that quarrel, of which no smaller part does; None if none do."""
-    rows = left_over(book)
-    if rows is None:
-        return None
-    kept = list(rows)
-    for index in rows:
+    check_book(book)
+    return least_quarrel(book.rows, len(book.names))
+
+
+def least_quarrel(rows, many):
+    """A lot of these rows that quarrel, of which no smaller part does; None if none do."""
+    _, kept = split(rows, many)
+    for index in list(kept):
         fewer = [one for one in kept if one != index]
         # Rows quarrel, all of them or some, exactly if no ranking fits them. So what
         # remains when no row can be spared any more quarrels as a whole.
-        if not some_fits([book.rows[one] for one in fewer], len(book.names)):
+        if not some_fits([rows[one] for one in fewer], many):
             kept = fewer
-    return tuple(kept)
+    return tuple(kept) if kept else None

@@ -4,7 +4,8 @@ from rankedrules.books import check_book
 from rankedrules.checks import check_lot, check_ranking, check_rule, is_index
 from rankedrules.errors import InvalidNumber
 from rankedrules.heads import count_fitting, endings, head_of, heads_above, openings, rules_of, steps
-from rankedrules.layers import all_hold, check_some_fits
+from rankedrules.layers import check_some_fits
+from rankedrules.rows import all_hold
 
 
 def how_many(book):

@@ -6,12 +6,21 @@ from itertools import combinations
 
 from rankedrules.books import Book
 from rankedrules.cases import Case
+from rankedrules.courts import Court
 from rankedrules.errors import (
-    InvalidLot, InvalidNumber, InvalidRanking, InvalidRow, InvalidRule, NotABook, NotACase, UnknownName,
+    InvalidCases, InvalidClaim, InvalidIndex, InvalidLot, InvalidName, InvalidNumber, InvalidOffers, InvalidRanking,
+    InvalidRow, InvalidRule, NoRanking, NotABook, NotACase, NotACourt, UnknownName,
 )
+from rankedrules.veils import Veil
 from tests.values import HUGE, OTHER_KINDS, Alike, error_of
 
 A_CASE = Case("a 0 1 2; b 2 1 0")
+A_VEIL = Veil("a 0 1-2 2; b 2 1 0-3")
+
+# Books of three rules that no ranking fits.
+QUARRELLING = (
+    "a b c: --.", "a b c: +-. -+.", "a b c: +-. .+- -.+", "a b c:" + " ..." * 19 + " ---", "a b c:" + " .-." * 20,
+)
 
 
 def given(error, values):
@@ -25,7 +34,18 @@ def but(kind, values=OTHER_KINDS):
 
 
 NO_BOOKS = given(NotABook, (*but(Book), "a b c: +-.", A_CASE, [Book("a:")], Alike()))
-NO_CASES = given(NotACase, (*OTHER_KINDS, "a 0 1 2; b 2 1 0", (A_CASE,), [A_CASE], Alike()))
+NO_CASES = given(NotACase, (
+    *but(Case), "a 0 1 2; b 2 1 0", (A_CASE,), [A_CASE], A_VEIL, Veil("a 0 1 2; b 2 1 0"), Alike(),
+))
+NO_VEILS = given(NotACase, (
+    *but(Veil), "a 0 1-2 2; b 2 1 0-3", (A_VEIL,), [A_VEIL], A_CASE, Alike(),
+))
+NO_COURTS = given(NotACourt, (*but(Court), Court, ("a", "b", "c"), [Court(("a", "b", "c"))], Alike()))
+
+# The numbers of rules that a case or a veil has which does not fit three rules.
+OTHER_NUMBERS = (1, 2, 4, 8)
+WRONG_CASES = NO_CASES + given(NotACase, [Case("a" + " 0" * many + "; b" + " 1" * many) for many in OTHER_NUMBERS])
+WRONG_VEILS = NO_VEILS + given(NotACase, [Veil("a" + " 0-1" * many + "; b" + " 1" * many) for many in OTHER_NUMBERS])
 
 # All of these are wrong beside three rules.
 WRONG_ROWS = given(InvalidRow, (
@@ -53,6 +73,52 @@ WRONG_LOTS = [
         ((Book("a:"),), 0), ((0, Alike()), 1),
     )
 ]
+
+
+WRONG_MOST = given(InvalidNumber, (*but(int), A_CASE, 21, 22, 99, -1, -20, HUGE, -HUGE, "0", (0,), [0], Alike()))
+WRONG_INDEXES = given(InvalidIndex, (*but(int), A_CASE, 20, 21, -1, -2, HUGE, -HUGE, "0", (0,), [0], Alike()))
+WRONG_NAMES = given(InvalidName, (
+    *but(str), "", " ", "A", "aB", "a1", "1", "a b", "a ", " a", "a\n", "a:", "abcdefghi", "+", ("a",), ["a"], b"a",
+    A_CASE, Alike(),
+))
+
+
+def wrong_tuples(error, right, most, wrong):
+    """Tuples that are none of one to so many right elements, each with the error of its index.
+
+    The first wrong element stands at any place, alone and ahead of another one.
+    """
+    told = [(value, None) for value in (*but(tuple), A_CASE, [right], {0: right}, Alike(), right, ())]
+    for at in range(most):
+        for value in wrong:
+            told.append(((right,) * at + (value,), at))
+        told.append(((right,) * at + (wrong[0],) + (right,) * (most - 1 - at), at))
+        told.append(((right,) * at + (wrong[-1],) * 2, at))
+        told.append(((right,) * at + (wrong[0],) + (right,) * 20, at))
+    for beyond in (1, 2, 30):
+        told.append(((right,) * (most + beyond), most))
+        told.append(((right,) * most + (wrong[0],) * beyond, most))
+    told.append(((right,) * (most + 1) + (wrong[0],), most))
+    return [(value, error, {"index": index}) for value, index in told]
+
+
+WRONG_CASE_TUPLES = wrong_tuples(InvalidCases, A_CASE, 4, [value for value, _, _ in WRONG_CASES])
+WRONG_OFFERS = wrong_tuples(InvalidOffers, "+-.", 8, [value for value, _, _ in WRONG_ROWS])
+
+ROW_CLAIMS = [("follows", "a", value) for value in (
+    *OTHER_KINDS, "x+", "+ -", "+" * 9, ["+"], ("+", "-"), b"+-", Alike()) if value != "+"]
+NUMBER_CLAIMS = [
+    claim for value in (*but(int), "0", (0,), [0], Alike())
+    for claim in (("count", "a", value), ("rows", "a", value), ("above", "a", value, 0), ("above", "a", 0, value))
+]
+NO_CLAIMS = given(InvalidClaim, (
+    *OTHER_KINDS, A_CASE, "fits", ("fits",), ("fits", "a", 0), ["fits", "a"], ("Fits", "a"), ("", "a"), ("fit", "a"),
+    (["fits"], "a"), (None, "a"), (("fits", "a"),), ({}, "a"), (Alike(), "a"), ("fits ", "a"), ("a", "fits"),
+    ("follows", "a"), ("follows", "a", "+-.", 0), ("follows", "+-."), ("above", "a", 0), ("above", "a", 0, 1, 2),
+    ("above", "a"), ("count", "a"), ("count", "a", 1, 1), ("rows", "a"), ("rows", "a", 1, None), ("quarrels", "a"),
+    ("wins", "a", "b"), ("open", "a", "+-."), ("alike", "a", "b"), ("FOLLOWS", "a", "+-."), ("count", 1), Alike(),
+    *ROW_CLAIMS, *NUMBER_CLAIMS,
+))
 
 
 def wrong_numbers(many):
@@ -86,6 +152,16 @@ class ArgumentsCase(unittest.TestCase):
                 for other, _, _ in wrong[later][::5]:
                     with self.subTest(function=function.__name__, wrong=(first, later), kind=value.__class__):
                         self.check_error(function, {**right, first: value, later: other}, error, attributes)
+
+    def check_no_ranking(self, function, right, wrong):
+        """For a book that no ranking fits: NoRanking, but behind the errors of all arguments."""
+        for text in QUARRELLING:
+            values = {**right, "book": Book(text)}
+            self.assertEqual(error_of(function, **values), (NoRanking, {}))
+            for name in list(right)[1:]:
+                for value, error, attributes in wrong[name]:
+                    with self.subTest(function=function.__name__, wrong=name, kind=value.__class__):
+                        self.check_error(function, {**values, name: value}, error, attributes)
 
     def check_passing(self, function, right):
         """By position, by name and by both: the same result, each time."""

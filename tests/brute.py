@@ -5,6 +5,7 @@ from functools import cache
 from itertools import combinations, permutations, product
 
 from rankedrules.books import Book
+from rankedrules.cases import Case
 
 NAMES = "abcdefgh"
 
@@ -59,6 +60,22 @@ def small_books():
     """All books of one and two rules with up to two rows, of three rules with up to one."""
     sizes = ((1, 0), (1, 1), (1, 2), (2, 0), (2, 1), (2, 2), (3, 0), (3, 1))
     return [book for many, rows in sizes for book in all_books(many, rows)]
+
+
+def text_of(marks):
+    """The text of a case with these marks, the names being letters."""
+    return "; ".join(" ".join([name, *map(str, row)]) for name, row in zip(NAMES, marks))
+
+
+def drawn_case(draw, candidates, rules, most):
+    """A case of so many candidates and rules, with marks drawn from 0 to the greatest one."""
+    return Case(text_of([[draw.randint(0, most) for _ in range(rules)] for _ in range(candidates)]))
+
+
+def best(case, ranking):
+    """The winners, found as those whose marks, read along the ranking, are least."""
+    read = {name: [row[rule] for rule in ranking] for name, row in zip(case.names, case.marks)}
+    return tuple(name for name in case.names if read[name] == min(read.values()))
 
 
 def drawn_row(draw, many, signs):

@@ -10,6 +10,7 @@ from rankedrules.cases import Case, against, barred, told_by, winners
 from rankedrules.errors import InvalidText, UnknownName
 from rankedrules.layers import holds
 from tests.arguments import A_CASE, NO_CASES, WRONG_RANKINGS, ArgumentsCase, unknown_names
+from tests.brute import best, drawn_case, text_of
 from tests.test_books import bent_by_one_character
 from tests.values import OTHER_KINDS, Alike, error_of, raised
 
@@ -157,18 +158,13 @@ class ObjectTest(unittest.TestCase):
             self.assertIsInstance(vars(Case)[name], property)
 
 
-def text_of(marks):
-    """The text of a case with these marks, the names being letters."""
-    return "; ".join(" ".join([name, *map(str, row)]) for name, row in zip("abcdefgh", marks))
-
-
 def drawn_cases():
     """Cases of all sizes, with many marks that are the same, always the same ones."""
     draw = random.Random(31)
     cases = [Case(text_of(marks)) for marks in product(product(range(3), repeat=2), repeat=3)]
     for many, rules in product((2, 3, 5, 8), (1, 2, 3, 4, 5)):
         for most in (1, 2, 3, 99):
-            cases.append(Case(text_of([[draw.randint(0, most) for _ in range(rules)] for _ in range(many)])))
+            cases.append(drawn_case(draw, many, rules, most))
     return cases
 
 
@@ -178,12 +174,6 @@ CASES = drawn_cases()
 def row_by_words(mine, theirs):
     """The row of one candidate against another one, by their marks."""
     return "".join("+" if one < other else "-" if one > other else "." for one, other in zip(mine, theirs))
-
-
-def best(case, ranking):
-    """The winners, found as those whose marks, read along the ranking, are least."""
-    read = {name: [row[rule] for rule in ranking] for name, row in zip(case.names, case.marks)}
-    return tuple(name for name in case.names if read[name] == min(read.values()))
 
 
 class AgainstTest(ArgumentsCase):

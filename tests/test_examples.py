@@ -47,8 +47,44 @@ CASES = """
 [('a', 'b'), ('b',)]
 """
 
+JUDGING = """
+>>> from rankedrules.judging import best_question, outcomes, possible, shares, sure
+>>> [possible(small, vans), sure(small, vans), possible(wide, vans), sure(wide, vans), shares(wide, vans), shares(free, vans)[2]]
+[('ann',), ('ann',), ('ann', 'bob'), (), ((1, 2), (1, 2), (0, 1), (0, 1)), (1, 3)]
+>>> [outcomes(wide, (vans,)), len(outcomes(free, (vans, Case("a 0 1 0; b 1 0 0")))), best_question(free, ("++-", "+-.", "..+"))]
+[((('ann',),), (('bob',),)), 4, 1]
+"""
+
+VEILS = """
+>>> from rankedrules.veils import Veil, brightest, can_win, darkest, must_win, telling
+>>> veil = Veil("ann 0 1-2; bob 1 0-3")
+>>> [veil.marks, str(brightest(veil, "ann")), str(darkest(veil, "ann")), can_win(Book("cost near:"), veil), must_win(Book("cost near:"), veil), must_win(Book("cost near: +-"), veil)]
+[(((0, 0), (1, 2)), ((1, 1), (0, 3))), 'ann 0 1; bob 1 3', 'ann 0 2; bob 1 0', ('ann', 'bob'), (), ('ann',)]
+>>> [telling(Book("cost near:"), veil), telling(Book("cost near: +-"), veil)]
+[(('ann', 1), ('bob', 1)), ()]
+"""
+
+DOUBTS = """
+>>> from rankedrules.doubts import fewest_wrong, follows_with, struck, surely_wrong
+>>> [struck(small), struck(bad), struck(ring), fewest_wrong(ring), surely_wrong(bad, 1), surely_wrong(bad, 0), follows_with(ring, "+.-", 1), follows_with(bad, "++.", 1)]
+[((),), ((0,), (1,)), ((0,), (1,), (2,)), 1, (), None, False, True]
+>>> [surely_wrong(Book("a b: -. ++"), 1), fewest_wrong(Book("a b: -. -- +-")), struck(Book("a b: -. -- +-"))]
+[(0,), 2, ((0, 1),)]
+"""
+
+COURTS = """
+>>> from rankedrules.courts import Court
+>>> court = Court(("cost", "near", "safe"))
+>>> court.tell("++-")
+>>> court.tell_case(vans, "bob")
+>>> [str(court.book), court.changes, how_many(court.book), court.forget(3), court.undo(), court.undo(), str(court.book)]
+['cost near safe: ++- -+. .+- .+.', 2, 2, None, None, None, 'cost near safe: ++-']
+>>> court.tell("--+")
+raises NoRanking()
+"""
+
 # Later examples use the names of earlier ones, so they all share one session.
-SESSION = (BOOKS, LAYERS, RANKINGS, FOLLOWING, CASES)
+SESSION = (BOOKS, LAYERS, RANKINGS, FOLLOWING, CASES, JUDGING, VEILS, DOUBTS, COURTS)
 
 
 class ExamplesTest(unittest.TestCase):
@@ -61,7 +97,7 @@ class ExamplesTest(unittest.TestCase):
                     self.assertEqual(take(statement, names), printed)
 
     def test_no_example_is_left_out(self):
-        self.assertEqual([len(steps(part)) for part in SESSION], [4, 4, 3, 3, 4])
+        self.assertEqual([len(steps(part)) for part in SESSION], [4, 4, 3, 3, 4, 3, 4, 3, 6])
 
 
 class StepsTest(unittest.TestCase):

@@ -19,6 +19,10 @@ DEFINED_IN = {
     "rankings": ("how_many", "ranking_at", "number_of", "places", "beginnings"),
     "following": ("judge", "above", "reasons", "needless", "alike"),
     "cases": ("Case", "against", "winners", "told_by", "barred"),
+    "judging": ("possible", "sure", "shares", "outcomes", "best_question"),
+    "veils": ("Veil", "brightest", "darkest", "can_win", "must_win", "telling"),
+    "doubts": ("struck", "fewest_wrong", "surely_wrong", "follows_with"),
+    "courts": ("Court",),
 }
 
 
