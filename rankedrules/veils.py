@@ -11,6 +11,10 @@ from rankedrules.reading import read_veil, write_case
 
 MOST_WAYS = 500
 
+# Where the two ends of a stretch stand in its pair.
+LEAST = 0
+GREATEST = 1
+
 
 class Veil:
     """A veil, made of its text; it never changes."""
@@ -60,19 +64,10 @@ def check_veil_beside(book, veil):
         raise NotACase(veil)
 
 
-def brightest_case(veil, one):
-    """The case that is best for this candidate."""
+def case_with(veil, one, own, others):
+    """The case with this end of the stretches of a candidate, and that end of those of all others."""
     rows = [
-        [least if name == one else greatest for least, greatest in row]
-        for name, row in zip(veil.names, veil.marks)
-    ]
-    return Case(write_case(veil.names, rows))
-
-
-def darkest_case(veil, one):
-    """The case that is worst for this candidate."""
-    rows = [
-        [greatest if name == one else least for least, greatest in row]
+        [stretch[own if name == one else others] for stretch in row]
         for name, row in zip(veil.names, veil.marks)
     ]
     return Case(write_case(veil.names, rows))
@@ -82,14 +77,14 @@ def brightest(veil, one):
     """The case with the least numbers of this candidate and the greatest ones of all others."""
     check_veil(veil)
     check_known(one, veil.names)
-    return brightest_case(veil, one)
+    return case_with(veil, one, LEAST, GREATEST)
 
 
 def darkest(veil, one):
     """The case with the greatest numbers of this candidate and the least ones of all others."""
     check_veil(veil)
     check_known(one, veil.names)
-    return darkest_case(veil, one)
+    return case_with(veil, one, GREATEST, LEAST)
 
 
 def can_win(book, veil):
@@ -98,7 +93,8 @@ def can_win(book, veil):
     check_veil_beside(book, veil)
     check_some_fits(book)
     # Fewer marks of its own and more marks of others never make a winner lose.
-    return tuple([name for name in veil.names if wins(book, brightest_case(veil, name), name)])
+    cases = {name: case_with(veil, name, LEAST, GREATEST) for name in veil.names}
+    return tuple([name for name in cases if wins(book, cases[name], name)])
 
 
 def must_win(book, veil):
@@ -107,7 +103,8 @@ def must_win(book, veil):
     check_veil_beside(book, veil)
     check_some_fits(book)
     fitting = count_fitting(book.rows, len(book.names))
-    return tuple([name for name in veil.names if wins(book, darkest_case(veil, name), name) == fitting])
+    cases = {name: case_with(veil, name, GREATEST, LEAST) for name in veil.names}
+    return tuple([name for name in cases if wins(book, cases[name], name) == fitting])
 
 
 def count_ways(stretches):

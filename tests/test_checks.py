@@ -2,7 +2,9 @@
 
 import unittest
 
-from rankedrules.checks import are_names, is_any_row, is_index, is_name, is_number, is_ranking, is_row
+from rankedrules.checks import (
+    are_names, is_any_row, is_index, is_lot, is_name, is_number, is_pair, is_ranking, is_row,
+)
 from tests.values import HUGE, OTHER_KINDS
 
 
@@ -35,6 +37,18 @@ class ChecksTest(unittest.TestCase):
         for index in (3, -1, HUGE, -HUGE):
             self.assertIs(is_index(index, 3), False)
         self.assertIs(is_index(0, 0), False)
+
+    def test_pairs(self):
+        for one, other in ((0, 1), (1, 0), (0, 2), (2, 1)):
+            self.assertIs(is_pair(one, other, 3), True)
+        for one, other in ((0, 0), (2, 2), (0, 3), (3, 0), (-1, 0), (0, -1), (False, 1), (0, True), ("0", 1), (0, None)):
+            self.assertIs(is_pair(one, other, 3), False)
+
+    def test_lots(self):
+        for lot in ((), (0,), (2,), (0, 1), (0, 2), (0, 1, 2)):
+            self.assertIs(is_lot(lot, 3), True)
+        for lot in ((3,), (-1,), (1, 0), (0, 0), (0, True), (False,), (0, "1"), (HUGE,), [0], [], "", 0, None):
+            self.assertIs(is_lot(lot, 3), False)
 
     def test_numbers(self):
         for word in ("0", "1", "9", "10", "99", "100", "12345678901234567890"):

@@ -83,8 +83,40 @@ COURTS = """
 raises NoRanking()
 """
 
+DESKS = """
+>>> from rankedrules.desks import Desk
+>>> desk = Desk()
+>>> desk.put("jury", small)
+>>> desk.claim(("above", "jury", 0, 2))
+>>> desk.claim(("fits", "jury"))
+>>> [desk.names, len(desk.claims), "club" in desk, desk.changes]
+[('jury',), 2, False, 3]
+>>> desk.put("jury", wide)
+raises Broken(index=0, told='open')
+"""
+
+TALKS = r"""
+>>> from rankedrules.talks import answer, talk
+>>> bench = Court(("cost", "near", "safe"))
+>>> [answer(bench, "tell ++-"), answer(bench, "layers"), answer(bench, "above cost safe"), answer(bench, "tell --+"), answer(bench, "judge ++"), answer(bench, "count")]
+['done', 'cost near / safe', 'open', 'no NoRanking', 'no InvalidRow', '4']
+>>> talk(bench, "tell -+.\nabove near safe\nabove near near\nrows\nforget 2\nundo\nrows")
+'done\nsure\nno UnknownName\n++- -+.\nno InvalidIndex\ndone\n++-'
+"""
+
+CERTIFICATES = """
+>>> from rankedrules.certificates import certify_above, certify_candidate, certify_count, certify_fits, certify_judged
+>>> from rankedrules.checker import accepts
+>>> [certify_fits(bad), certify_fits(small), certify_judged(wide, "--+")[0][2], certify_judged(small, "+.-"), certify_above(wide, 0, 2), certify_count(wide)[0][2], certify_candidate(vans, "dan")[0]]
+[(('quarrels', 'cost near safe: +-. -+.'), (0, 1)), (('fits', 'cost near safe: +-. .+-'), (0, 1, 2)), '++-', (('follows', 'cost near safe: +-. .+-', '+.-'), (0, 1)), None, 4, ('loses', 'ann 0 2 1; bob 1 0 1; cid 1 1 0; dan 1 2 1', 'dan')]
+>>> [accepts(("open", str(wide), "+.-"), ((0, 2, 1), (1, 2, 0))), accepts(("alike", str(small), "cost near safe: +-- .+-"), None), accepts(("follows", str(wide), "..+"), ()), accepts(("loses", str(vans), "dan"), ("ann", "bob")), accepts(("loses", str(vans), "ann"), ("bob",))]
+[True, True, True, True, False]
+"""
+
 # Later examples use the names of earlier ones, so they all share one session.
-SESSION = (BOOKS, LAYERS, RANKINGS, FOLLOWING, CASES, JUDGING, VEILS, DOUBTS, COURTS)
+SESSION = (
+    BOOKS, LAYERS, RANKINGS, FOLLOWING, CASES, JUDGING, VEILS, DOUBTS, COURTS, DESKS, TALKS, CERTIFICATES,
+)
 
 
 class ExamplesTest(unittest.TestCase):
@@ -97,7 +129,7 @@ class ExamplesTest(unittest.TestCase):
                     self.assertEqual(take(statement, names), printed)
 
     def test_no_example_is_left_out(self):
-        self.assertEqual([len(steps(part)) for part in SESSION], [4, 4, 3, 3, 4, 3, 4, 3, 6])
+        self.assertEqual([len(steps(part)) for part in SESSION], [4, 4, 3, 3, 4, 3, 4, 3, 6, 7, 4, 4])
 
 
 class StepsTest(unittest.TestCase):

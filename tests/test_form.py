@@ -23,6 +23,12 @@ DEFINED_IN = {
     "veils": ("Veil", "brightest", "darkest", "can_win", "must_win", "telling"),
     "doubts": ("struck", "fewest_wrong", "surely_wrong", "follows_with"),
     "courts": ("Court",),
+    "desks": ("Desk",),
+    "talks": ("answer", "talk"),
+    "checker": ("accepts",),
+    "certificates": (
+        "certify_fits", "certify_judged", "certify_above", "certify_count", "certify_alike", "certify_candidate",
+    ),
 }
 
 

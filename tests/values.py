@@ -3,6 +3,7 @@
 from rankedrules.books import Book
 from rankedrules.cases import Case
 from rankedrules.courts import Court
+from rankedrules.desks import Desk
 from rankedrules.veils import Veil
 
 HUGE = 10 ** 5000
@@ -10,7 +11,7 @@ HUGE = 10 ** 5000
 OTHER_KINDS = (
     None, True, False, 0, 1, -1, 7, HUGE, -HUGE, "", "x", "+", ":", b"a:", (), (0,), ("+",), [], [0],
     ["+", "-"], {}, {0: "+"}, {0, 1}, ((0,), [1]), object(), int, len, Book("a:"), Book("a b: +- -+"),
-    Case("c 0; d 1"), Veil("c 0-1; d 1"), Court(("a",)),
+    Case("c 0; d 1"), Veil("c 0-1; d 1"), Court(("a",)), Desk(),
 )
 
 
